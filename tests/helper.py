@@ -1,0 +1,109 @@
+"""Stories gone through one by one, straight from the document, and values of wrong kinds."""
+
+from itertools import product
+
+DAY = (4, 1, 3, 1, 2, (-1, 1), 6)
+CALM = (4, 1, 3, 1, 2, (), 1)
+RARE = (4, 1, 1, 1, 2, (), 1)
+
+# What is no almanac, no hour, no story and no readings.
+ODD_VALUES = (None, True, False, -1, "", "almanac", (), [], {}, (True,), (None,), ("0",), [0], {0: 0}, ((0,),), (1.5,))
+
+
+def sets_up_to(almanac, end, allowed_from=1):
+    """All sets of stories whose last waking is at this hour."""
+    settings, rest = almanac[5], almanac[6]
+    found = [()]
+    for hour in range(allowed_from, end + 1):
+        for setting in settings:
+            for more in sets_up_to(almanac, end, hour + rest):
+                found.append(((hour, setting),) + more)
+    return found
+
+
+def stories(almanac, many):
+    """All stories with so many wakings."""
+    soon, late = almanac[3], almanac[4]
+    found = []
+    for gaps in product(range(soon, late + 1), repeat=many - 1):
+        wakings = tuple(sum(gaps[:at]) for at in range(many))
+        for sets in sets_up_to(almanac, wakings[-1]):
+            found.append((wakings, sets))
+    return found
+
+
+def shown(almanac, story):
+    """What the clock shows at the wakings of a story."""
+    return tuple(
+        (waking + sum(setting for hour, setting in story[1] if hour <= waking)) % almanac[0] for waking in story[0]
+    )
+
+
+def by_readings(almanac, many):
+    """All stories with so many wakings, by their readings."""
+    found = {}
+    for story in stories(almanac, many):
+        found.setdefault(shown(almanac, story), []).append(story)
+    return found
+
+
+def shut_by_count(almanac, hour):
+    return len([day for day in range(hour + 1) if day * almanac[0] + almanac[2] < hour])
+
+
+def opened_by_count(almanac, hour):
+    return len([day for day in range(hour + 1) if day * almanac[0] + almanac[1] <= hour])
+
+
+def urgent_by_count(almanac, hour):
+    return shut_by_count(almanac, hour + almanac[4])
+
+
+def is_clash(almanac, one, other):
+    return urgent_by_count(almanac, one[0][-1]) > opened_by_count(almanac, other[0][-1])
+
+
+def place_of(almanac, one, other):
+    """The place of two stories."""
+    hours, rest = almanac[0], almanac[6]
+    errors = [sum(setting for _, setting in story[1]) % hours for story in (one, other)]
+    waits = [max([1] + [hour + rest - story[0][-1] for hour, _ in story[1]]) for story in (one, other)]
+    return (one[0][-1] % hours, one[0][-1] - other[0][-1], *errors, *waits)
+
+
+def states_of(almanac, alike):
+    """One story for each hour, error and wait among stories with the same readings."""
+    return {(story[0][-1], place_of(almanac, story, story)): story for story in alike}.values()
+
+
+def shortest_clash(almanac, most):
+    """The fewest wakings of a conflict, up to most, else None."""
+    for many in range(1, most + 1):
+        for alike in by_readings(almanac, many).values():
+            ends = states_of(almanac, alike)
+            if any(is_clash(almanac, one, other) for one in ends for other in ends):
+                return many
+    return None
+
+
+def places_up_to(almanac, most):
+    """The places of all pairs of stories with the same readings and up to so many wakings."""
+    return {
+        place_of(almanac, one, other)
+        for many in range(1, most + 1)
+        for alike in by_readings(almanac, many).values()
+        for one in states_of(almanac, alike)
+        for other in states_of(almanac, alike)
+    }
+
+
+def small_almanacs():
+    """Almanacs of all kinds, few enough to go through their stories."""
+    return [
+        (hours, first, first + long, soon, soon + more, settings, rest)
+        for hours, settings in ((2, (-1,)), (3, (1,)), (4, ()), (4, (-1, 1)), (5, (-2, 3)))
+        for first in (0, hours - 1)
+        for long in (0, hours - 2, hours - 1)
+        for soon, more in ((1, 0), (1, 1), (2, 1), (3, 0))
+        for rest in (1, 4)
+    ]

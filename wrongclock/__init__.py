@@ -1,0 +1,1 @@
+"""Wrongclock: a keeper whose clock is set about."""

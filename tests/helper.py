@@ -107,3 +107,42 @@ def small_almanacs():
         for soon, more in ((1, 0), (1, 1), (2, 1), (3, 0))
         for rest in (1, 4)
     ]
+
+
+def first_wrong_waking(almanac, table, story):
+    """The number of the first waking, from 1, at which a keeper with a table fails, else None."""
+    hours, first, last = almanac[:3]
+    state, done = 0, 0
+    for many, (hour, reading) in enumerate(zip(story[0], shown(almanac, story)), start=1):
+        if table[state][reading] is None:
+            return many
+        state, deeds = table[state][reading]
+        inside = [day * hours + first <= hour <= day * hours + last for day in range(done, done + deeds)]
+        done += deeds
+        if not all(inside) or urgent_by_count(almanac, hour) > done:
+            return many
+    return None
+
+
+def thumb_goes_wrong(almanac, thumb, story):
+    """The number of the first waking at which a keeper with a thumb fails, else None."""
+    hours, first, last = almanac[:3]
+    done, before = 0, False
+    for many, (hour, reading) in enumerate(zip(story[0], shown(almanac, story)), start=1):
+        if reading in thumb and not before:
+            if not done * hours + first <= hour <= done * hours + last:
+                return many
+            done += 1
+        before = reading in thumb
+        if urgent_by_count(almanac, hour) > done:
+            return many
+    return None
+
+
+def fewest_until_wrong(almanac, most, wrong_at):
+    """The fewest wakings, up to most, of a story at whose last one it goes wrong, with all such stories."""
+    for many in range(1, most + 1):
+        bad = [story for story in stories(almanac, many) if wrong_at(story) is not None]
+        if bad:
+            return many, bad
+    return None, []

@@ -5,71 +5,106 @@ import inspect
 import unittest
 
 from tests.helper import CALM, DAY, ODD_VALUES, RARE
-from wrongclock import almanacs, rules, twins
-from wrongclock.errors import BadAlmanac, BadHour, BadReadings, BadStory, ClockworkError, TooMany
-
-# Each function of the interface, its further argument where it has one, and the error for a wrong one.
-INTERFACE = (
-    (almanacs, "readings", "story", BadStory),
-    (almanacs, "shut", "hour", BadHour),
-    (almanacs, "opened", "hour", BadHour),
-    (almanacs, "urgent", "hour", BadHour),
-    (twins, "conflict", None, None),
-    (twins, "shows_conflict", "value", None),
-    (twins, "has_keeper", None, None),
-    (twins, "places", None, None),
-    (twins, "shows_places", "value", None),
-    (rules, "rule", "readings", BadReadings),
-    (rules, "may_be", "readings", BadReadings),
+from wrongclock import almanacs, benches, counts, keepers, rules, texts, twins
+from wrongclock.errors import (
+    BadAlmanac, BadHour, BadNumber, BadReadings, BadStory, BadTable, BadText, ClockworkError, NoKeeper, TooMany,
 )
-RIGHT = {"story": ((0,), ()), "hour": 0, "value": None, "readings": (0,)}
+
+# Each function of the interface with the names of its arguments.
+INTERFACE = (
+    (almanacs, "readings", "almanac", "story"),
+    (almanacs, "shut", "almanac", "hour"),
+    (almanacs, "opened", "almanac", "hour"),
+    (almanacs, "urgent", "almanac", "hour"),
+    (twins, "conflict", "almanac"),
+    (twins, "shows_conflict", "almanac", "value"),
+    (twins, "has_keeper", "almanac"),
+    (twins, "places", "almanac"),
+    (twins, "shows_places", "almanac", "value"),
+    (rules, "rule", "almanac", "readings"),
+    (rules, "may_be", "almanac", "readings"),
+    (keepers, "bad_story", "almanac", "table"),
+    (keepers, "shows_bad_story", "almanac", "table", "value"),
+    (keepers, "keeper", "almanac"),
+    (keepers, "greatest_late", "almanac"),
+    (keepers, "least_rest", "almanac"),
+    (keepers, "least_last", "almanac"),
+    (keepers, "thumb_fails", "almanac", "thumb"),
+    (keepers, "good_thumbs", "almanac"),
+    (benches, "Bench", "almanac"),
+    (texts, "written", "almanac"),
+    (texts, "told", "almanac", "story"),
+    (texts, "read_almanac", "text"),
+    (texts, "read_story", "almanac", "text"),
+    (counts, "count_stories", "almanac", "wakings"),
+    (counts, "count_readings", "almanac", "wakings"),
+    (counts, "count_with", "almanac", "readings"),
+    (counts, "reading_chance", "almanac", "chance", "readings"),
+    (counts, "fail_chance", "almanac", "chance", "table", "wakings"),
+)
+RIGHT = {
+    "almanac": CALM, "story": ((0,), ()), "hour": 0, "value": None, "readings": (0,), "table": (((0, 0),) * 4,),
+    "thumb": (1,), "text": "0 woken\n", "wakings": 1, "chance": (1, 2),
+}
+# The error for a wrong value of each argument; any is right for "value".
+WRONG = {
+    "almanac": BadAlmanac, "story": BadStory, "hour": BadHour, "readings": BadReadings, "table": BadTable,
+    "thumb": BadReadings, "text": BadText, "wakings": BadNumber, "chance": BadNumber,
+}
 SLOW = (12, 2, 12, 1, 2, (-11,), 11)
 
 
-def right_values(further):
-    """The further arguments of a call with nothing wrong in them."""
-    return [] if further is None else [RIGHT[further]]
-
-
 def functions():
-    return [(getattr(module, name), further, error) for module, name, further, error in INTERFACE]
+    return [(getattr(module, name), names) for module, name, *names in INTERFACE]
+
+
+def called_with(function, names, at, value):
+    """Call a function with right arguments, but a value in place of the one with this number."""
+    return function(*[value if place == at else RIGHT[name] for place, name in enumerate(names)])
 
 
 class Whole(unittest.TestCase):
     def test_interface(self):
-        for module, name, further, _ in INTERFACE:
+        for module, name, *names in INTERFACE:
             function = getattr(module, name)
             self.assertEqual(function.__module__, module.__name__)
-            names = ["almanac"] if further is None else ["almanac", further]
             self.assertEqual(list(inspect.signature(function).parameters), names)
 
+    def test_right_arguments(self):
+        for function, names in functions():
+            if function is not texts.read_almanac:
+                function(*[RIGHT[name] for name in names])
+
+    def test_any_value_for_any_argument(self):
+        for function, names in functions():
+            for at, name in enumerate(names):
+                for value in ODD_VALUES if name in WRONG else ():
+                    with self.assertRaises(WRONG[name], msg=(function, name, value)):
+                        called_with(function, names, at, value)
+
     def test_any_value_for_the_almanac(self):
-        for function, further, _ in functions():
-            for almanac in ODD_VALUES + (list(DAY), DAY[:6], DAY + (1,)):
+        for function, names in functions():
+            for almanac in ODD_VALUES + (list(DAY), DAY[:6], DAY + (1,)) if names[0] == "almanac" else ():
                 with self.assertRaises(BadAlmanac) as caught:
-                    function(almanac, *right_values(further))
+                    called_with(function, names, 0, almanac)
                 self.assertEqual(caught.exception.part, "almanac")
 
-    def test_any_value_for_another_argument(self):
-        for function, _, error in functions():
-            if error is not None:
-                for value in ODD_VALUES:
-                    with self.assertRaises(error):
-                        function(DAY, value)
-
     def test_the_leftmost_argument_is_blamed(self):
-        for function, _, error in functions():
-            if error is not None:
-                with self.assertRaises(BadAlmanac):
-                    function(DAY[:6] + (0,), None)
+        for function, names in functions():
+            for at, name in enumerate(names):
+                if name in WRONG:
+                    right = [RIGHT[before] for before in names[:at]]
+                    with self.assertRaises(WRONG[name]):
+                        function(*right, *[None for _ in names[at:]])
 
     def test_shows_any_value(self):
         odd = ODD_VALUES + ((None, None), (((0,), ()),), (((0,), ()), ((0,), ())), [((0,), ()), ((0,), ())])
+        table = RIGHT["table"]
         for almanac in (DAY, CALM, RARE):
-            for value in odd + ((0, 0, 0, 0, 1, 1), ((0, 0, 0, 0, 1, True),), ({},) * 6, (({},) * 6,)):
-                self.assertIn(twins.shows_conflict(almanac, value), (True, False))
+            for value in odd + ((0, 0, 0, 0, 1, 1), ((0, 0, 0, 0, 1, True),), ({},) * 6, (({},) * 6,), ((0, 2), ())):
                 self.assertIs(type(twins.shows_conflict(almanac, value)), bool)
                 self.assertIs(type(twins.shows_places(almanac, value)), bool)
+                self.assertIs(type(keepers.shows_bad_story(almanac, table, value)), bool)
 
     def test_too_many_comes_last(self):
         # The value doesn't matter where an almanac has too many places, but a wrong almanac is told first.
@@ -78,6 +113,12 @@ class Whole(unittest.TestCase):
                 twins.shows_conflict(SLOW, value)
         with self.assertRaises(BadAlmanac):
             twins.shows_conflict(SLOW[:6] + (13,), None)
+
+    def test_no_keeper_comes_ahead_of_too_many(self):
+        with self.assertRaises(TooMany):
+            twins.has_keeper(SLOW)
+        with self.assertRaises(NoKeeper):
+            keepers.keeper(SLOW)
 
     def test_true_and_false_are_no_integers(self):
         for wrong in ((0, False), (0, True)):
@@ -92,15 +133,15 @@ class Whole(unittest.TestCase):
             almanacs.shut(DAY, True)
         self.assertFalse(twins.shows_conflict(RARE, (((False,), ()), ((0,), ()))))
         self.assertFalse(twins.shows_places(CALM, ((False, 0, 0, 0, 1, 1),) + twins.places(CALM)[1:]))
+        self.assertFalse(keepers.shows_bad_story(RARE, (((0, 0),) * 4,), ((False,), ())))
 
     def test_no_argument_is_modified(self):
         for value in ([[0], []], {"hours": [4]}, [[0, 0, 0, 0, 1, 1]], ([0], []), ([0, 0, 0, 0, 1, 1],)):
             before = copy.deepcopy(value)
-            for function, further, _ in functions():
-                calls = [(value,)] if further is None else [(value, value), (DAY, value)]
-                for arguments in calls:
+            for function, names in functions():
+                for at in range(len(names)):
                     try:
-                        function(*arguments)
+                        called_with(function, names, at, value)
                     except ClockworkError:
                         pass
             self.assertEqual(value, before)
@@ -110,9 +151,11 @@ class Whole(unittest.TestCase):
             self.assertEqual(twins.places(CALM), tuple((hour, 0, 0, 0, 1, 1) for hour in range(4)))
             self.assertEqual(rules.may_be(DAY, (0, 2)), (1, 2))
             self.assertEqual(almanacs.urgent(DAY, 2), 1)
+            self.assertEqual(keepers.good_thumbs((3, 0, 2, 1, 1, (), 1)), ((0,), (0, 1), (1,), (1, 2), (2,)))
 
     def test_answers_are_exact(self):
         self.assertEqual(almanacs.opened((7, 3, 5, 1, 2, (), 1), 10 ** 9), (10 ** 9 - 3) // 7 + 1)
+        self.assertEqual(counts.count_stories((4, 1, 3, 1, 24, (), 1), 60), 24 ** 59)
 
 
 if __name__ == "__main__":

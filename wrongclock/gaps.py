@@ -3,6 +3,7 @@
 A wait is the number of hours until the clock may be set again, the least that is 1 or more.
 Waits are kept as the bits of an integer: wait 1 is the lowest bit, wait 2 the next one.
 A change is by how much the error got greater, modulo hours.
+A step is what happens from one waking to the next: (gap, change, wait before, wait after).
 """
 
 
@@ -61,3 +62,14 @@ def sets_within(almanac, gap, change, wait, wait_after):
                     later.setdefault(((turned + setting) % hours, rest), sets + ((hour, setting),))
         ways = later
     return ways[(change, wait_after)]
+
+
+def story_of(almanac, steps):
+    """Return a story that goes some steps."""
+    wakings = [0]
+    sets = []
+    for gap, change, wait, wait_after in steps:
+        for hour, setting in sets_within(almanac, gap, change, wait, wait_after):
+            sets.append((wakings[-1] + hour, setting))
+        wakings.append(wakings[-1] + gap)
+    return (tuple(wakings), tuple(sets))

@@ -1,12 +1,12 @@
 """Two stories that lead to a place, told from the levels of a walk."""
 
-from wrongclock.gaps import bits, sets_within
+from wrongclock.gaps import bits, story_of
 
 
 class Trace:
     """The way back of a walk without errors from its last level, with the steps of both stories.
 
-    A place is here (hour, ahead, wait, other wait), a step (gap, change, wait before, wait after).
+    A place is here (hour, ahead, wait, other wait).
     """
 
     def __init__(self, walk):
@@ -25,7 +25,7 @@ class Trace:
             steps.append(step)
             other_steps.append(other_step)
             place = self.place_before(place, step, other_step)
-        return (self.story(steps[::-1]), self.story(other_steps[::-1]))
+        return (story_of(self.almanac, steps[::-1]), story_of(self.almanac, other_steps[::-1]))
 
     def place_before(self, place, step, other_step):
         """Return the place from which a step of each story leads to a place."""
@@ -60,13 +60,3 @@ class Trace:
         """Tell whether a gap with a change can lead from a wait, told from 0, to a wait."""
         waits = self.table.get((gap, change))
         return waits is not None and (waits[at] >> (after - 1)) & 1 == 1
-
-    def story(self, steps):
-        """Return the story that goes these steps."""
-        wakings = [0]
-        sets = []
-        for gap, change, wait, after in steps:
-            for hour, setting in sets_within(self.almanac, gap, change, wait, after):
-                sets.append((wakings[-1] + hour, setting))
-            wakings.append(wakings[-1] + gap)
-        return (tuple(wakings), tuple(sets))

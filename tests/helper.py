@@ -1,6 +1,10 @@
 """Stories gone through one by one, straight from the document, and values of wrong kinds."""
 
+import unittest
 from itertools import product
+
+from wrongclock.errors import TooMany
+from wrongclock.gaps import bits
 
 DAY = (4, 1, 3, 1, 2, (-1, 1), 6)
 CALM = (4, 1, 3, 1, 2, (), 1)
@@ -8,6 +12,13 @@ RARE = (4, 1, 1, 1, 2, (), 1)
 
 # What is no almanac, no hour, no story and no readings.
 ODD_VALUES = (None, True, False, -1, "", "almanac", (), [], {}, (True,), (None,), ("0",), [0], {0: 0}, ((0,),), (1.5,))
+
+
+class Case(unittest.TestCase):
+    def too_many(self, function, *arguments):
+        with self.assertRaises(TooMany) as caught:
+            function(*arguments)
+        return caught.exception.most
 
 
 def sets_up_to(almanac, end, allowed_from=1):
@@ -39,12 +50,39 @@ def shown(almanac, story):
     )
 
 
-def by_readings(almanac, many):
-    """All stories with so many wakings, by their readings."""
+def told_by(almanac, sign, story, at):
+    """What a sign tells at the waking of a story with this number, from 0."""
+    wakings, sets = story
+    kind, *numbers = sign
+    behind = range(wakings[at - 1] + 1, wakings[at] + 1) if at > 0 else range(0)
+    if kind == "sun":
+        return 1 if wakings[at] % almanac[0] in range(numbers[0], numbers[1] + 1) else 0
+    if kind == "second":
+        return wakings[at] % numbers[0]
+    if kind == "bell":
+        return 1 if numbers[0] in [hour % almanac[0] for hour in behind] else 0
+    return len([hour for hour, _ in sets if hour in behind])
+
+
+def seen(almanac, signs, story):
+    """What the keeper sees at the wakings of a story: the clock's reading, then what each sign tells."""
+    return tuple(
+        (reading,) + tuple(told_by(almanac, sign, story, at) for sign in signs)
+        for at, reading in enumerate(shown(almanac, story))
+    )
+
+
+def by_sight(almanac, signs, many):
+    """All stories with so many wakings, by what the keeper sees."""
     found = {}
     for story in stories(almanac, many):
-        found.setdefault(shown(almanac, story), []).append(story)
+        found.setdefault(seen(almanac, signs, story), []).append(story)
     return found
+
+
+def by_readings(almanac, many):
+    """All stories with so many wakings, by their readings."""
+    return {tuple(reading for reading, in sight): alike for sight, alike in by_sight(almanac, (), many).items()}
 
 
 def shut_by_count(almanac, hour):
@@ -88,12 +126,25 @@ def shortest_clash(almanac, most):
 
 def places_up_to(almanac, most):
     """The places of all pairs of stories with the same readings and up to so many wakings."""
+    groups = [alike for many in range(1, most + 1) for alike in by_readings(almanac, many).values()]
+    return places_met(almanac, groups, almanac[0])
+
+
+def places_met(almanac, groups, period):
+    """The places of the pairs of stories in each of the groups, with the hour told modulo a period."""
+    ends = [states_of(almanac, alike) for alike in groups]
     return {
-        place_of(almanac, one, other)
-        for many in range(1, most + 1)
-        for alike in by_readings(almanac, many).values()
-        for one in states_of(almanac, alike)
-        for other in states_of(almanac, alike)
+        (one[0][-1] % period,) + place_of(almanac, one, other)[1:]
+        for stories_met in ends for one in stories_met for other in stories_met
+    }
+
+
+def places_walked(walk, many):
+    """The places that a whole walk finds with up to so many wakings."""
+    hours, rest = walk.almanac[0], walk.almanac[6]
+    return {
+        (hour, ahead, error, (error + ahead) % hours, pair // rest + 1, pair % rest + 1)
+        for level in walk.levels(None)[:many] for (hour, ahead, error), pairs in level.items() for pair in bits(pairs)
     }
 
 

@@ -3,9 +3,9 @@
 import unittest
 
 from tests.helper import (
-    CALM, ODD_VALUES, RARE, is_clash, places_up_to, shortest_clash, shown, small_almanacs, stories,
+    CALM, ODD_VALUES, RARE, Case, is_clash, places_up_to, shortest_clash, shown, small_almanacs, stories,
 )
-from wrongclock.errors import BadAlmanac, TooMany
+from wrongclock.errors import BadAlmanac
 from wrongclock.twins import conflict, has_keeper, places, shows_conflict, shows_places
 
 # Its shortest conflicts have four wakings.
@@ -17,13 +17,6 @@ SIXTY = (12, 1, 11, 1, 2, (-11,), 11)
 SIXTY_ONE = (12, 2, 12, 1, 2, (-11,), 11)
 PLACES_39980 = (9, 7, 14, 3, 4, (-4, -2, -1), 8)
 PLACES_40012 = (11, 6, 16, 5, 8, (-9, -8, -5, 3), 6)
-
-
-class Case(unittest.TestCase):
-    def too_many(self, function, *arguments):
-        with self.assertRaises(TooMany) as caught:
-            function(*arguments)
-        return caught.exception.most
 
 
 class Conflicts(Case):

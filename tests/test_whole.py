@@ -5,9 +5,10 @@ import inspect
 import unittest
 
 from tests.helper import CALM, DAY, ODD_VALUES, RARE
-from wrongclock import almanacs, benches, counts, keepers, rules, texts, twins
+from wrongclock import almanacs, benches, books, counts, drifts, keepers, rules, signs, smalls, texts, twins
 from wrongclock.errors import (
-    BadAlmanac, BadHour, BadNumber, BadReadings, BadStory, BadTable, BadText, ClockworkError, NoKeeper, TooMany,
+    BadAlmanac, BadBook, BadHour, BadNumber, BadReadings, BadSigns, BadStory, BadTable, BadText, ClockworkError,
+    NoKeeper, TooMany,
 )
 
 # Each function of the interface with the names of its arguments.
@@ -41,15 +42,42 @@ INTERFACE = (
     (counts, "count_with", "almanac", "readings"),
     (counts, "reading_chance", "almanac", "chance", "readings"),
     (counts, "fail_chance", "almanac", "chance", "table", "wakings"),
+    (signs, "signed_readings", "almanac", "signs", "story"),
+    (signs, "signed_conflict", "almanac", "signs"),
+    (signs, "shows_signed_conflict", "almanac", "signs", "value"),
+    (signs, "helping_lots", "almanac", "signs"),
+    (books, "due", "almanac", "book", "hour"),
+    (books, "book_conflict", "almanac", "book"),
+    (books, "book_rule", "almanac", "book", "readings"),
+    (books, "judged", "almanac", "log"),
+    (drifts, "spread", "almanac", "wakings"),
+    (drifts, "drift", "almanac"),
+    (smalls, "cheapest_bad", "almanac", "table"),
+    (smalls, "shows_cheapest_bad", "almanac", "table", "value"),
+    (smalls, "smallest", "almanac", "most"),
+    (smalls, "fewest_states", "almanac", "most"),
+)
+# These may return any of several values.
+ANY_SUCH = (
+    "conflict", "bad_story", "thumb_fails", "signed_conflict", "book_conflict", "cheapest_bad", "smallest",
 )
 RIGHT = {
     "almanac": CALM, "story": ((0,), ()), "hour": 0, "value": None, "readings": (0,), "table": (((0, 0),) * 4,),
-    "thumb": (1,), "text": "0 woken\n", "wakings": 1, "chance": (1, 2),
+    "thumb": (1,), "text": "0 woken\n", "wakings": 1, "chance": (1, 2), "signs": (("told",),),
+    "book": ((1, 3, 1, 0),), "log": ((0, 0),), "most": 2,
+}
+# Other right arguments, for an almanac with settings.
+OTHERS = {
+    "almanac": DAY, "story": ((0, 2, 3, 5), ((2, 1),)), "hour": 6, "value": ((0, 1), ()), "readings": (0, 2),
+    "table": (((0, 0), (0, 1), (0, 0), (0, 0)),), "thumb": (1, 2), "text": "0 woken\n1 set -1\n2 woken\n",
+    "wakings": 3, "chance": (1, 3), "signs": (("bell", 3), ("sun", 0, 2)), "book": ((1, 3, 1, 0), (0, 2, 2, 1)),
+    "log": ((0, 0), (2, 1)), "most": 1,
 }
 # The error for a wrong value of each argument; any is right for "value".
 WRONG = {
     "almanac": BadAlmanac, "story": BadStory, "hour": BadHour, "readings": BadReadings, "table": BadTable,
-    "thumb": BadReadings, "text": BadText, "wakings": BadNumber, "chance": BadNumber,
+    "thumb": BadReadings, "text": BadText, "wakings": BadNumber, "chance": BadNumber, "signs": BadSigns,
+    "book": BadBook, "log": BadReadings, "most": BadNumber,
 }
 SLOW = (12, 2, 12, 1, 2, (-11,), 11)
 
@@ -79,6 +107,8 @@ class Whole(unittest.TestCase):
         for function, names in functions():
             for at, name in enumerate(names):
                 for value in ODD_VALUES if name in WRONG else ():
+                    if name == "signs" and value == ():
+                        continue
                     with self.assertRaises(WRONG[name], msg=(function, name, value)):
                         called_with(function, names, at, value)
 
@@ -105,6 +135,8 @@ class Whole(unittest.TestCase):
                 self.assertIs(type(twins.shows_conflict(almanac, value)), bool)
                 self.assertIs(type(twins.shows_places(almanac, value)), bool)
                 self.assertIs(type(keepers.shows_bad_story(almanac, table, value)), bool)
+                self.assertIs(type(smalls.shows_cheapest_bad(almanac, table, value)), bool)
+                self.assertIs(type(signs.shows_signed_conflict(almanac, (("sun", 0, 1),), value)), bool)
 
     def test_too_many_comes_last(self):
         # The value doesn't matter where an almanac has too many places, but a wrong almanac is told first.
@@ -153,9 +185,29 @@ class Whole(unittest.TestCase):
             self.assertEqual(almanacs.urgent(DAY, 2), 1)
             self.assertEqual(keepers.good_thumbs((3, 0, 2, 1, 1, (), 1)), ((0,), (0, 1), (1,), (1, 2), (2,)))
 
+    def test_the_order_of_the_calls_does_not_matter(self):
+        calls = [(function, names, right) for function, names in functions() for right in (RIGHT, OTHERS)]
+        answers = []
+        for order in (calls, calls[::-1], calls[1::2] + calls[::2]):
+            arguments = (copy.deepcopy(RIGHT), copy.deepcopy(OTHERS))
+            found = {}
+            for function, names, right in order:
+                if function.__name__ not in ANY_SUCH + ("Bench",):
+                    try:
+                        answer = function(*[right[name] for name in names])
+                    except ClockworkError as error:
+                        answer = repr(error)
+                    found[function.__name__, right is RIGHT] = answer
+            self.assertEqual((RIGHT, OTHERS), arguments)
+            answers.append(found)
+        self.assertGreater(len(answers[0]), 60)
+        self.assertEqual(answers[0], answers[1])
+        self.assertEqual(answers[0], answers[2])
+
     def test_answers_are_exact(self):
         self.assertEqual(almanacs.opened((7, 3, 5, 1, 2, (), 1), 10 ** 9), (10 ** 9 - 3) // 7 + 1)
         self.assertEqual(counts.count_stories((4, 1, 3, 1, 24, (), 1), 60), 24 ** 59)
+        self.assertEqual(books.due((7, 3, 5, 1, 2, (), 1), ((3, 5, 3, 1),), 10 ** 9), ((10 ** 9 - 11) // 21 + 1,))
 
 
 if __name__ == "__main__":

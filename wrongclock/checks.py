@@ -1,6 +1,6 @@
 """What is allowed as an argument."""
 
-from wrongclock.errors import BadAlmanac, BadHour, BadReadings, BadStory
+from wrongclock.errors import BadAlmanac, BadHour, BadNumber, BadReadings, BadStory
 
 MOST_SETTINGS = 4
 MOST_LATE = 24
@@ -111,6 +111,12 @@ def check_hour(hour):
     """Raise BadHour for what is no hour that may be asked about."""
     if not is_within(hour, 0, LAST_HOUR):
         raise BadHour()
+
+
+def check_number(value, most):
+    """Raise BadNumber for what is no integer from 1 to most."""
+    if not is_within(value, 1, most):
+        raise BadNumber()
 
 
 def are_readings(almanac, value):

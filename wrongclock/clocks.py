@@ -52,4 +52,4 @@ class Clocks:
         hours, rest = self.almanac[0], self.almanac[6]
         error, at = divmod(place, rest)
         later_error, later_at = divmod(later_place, rest)
-        return (gap, (later_error - error) % hours, at + 1, later_at + 1)
+        return (gap, (later_error - error) % hours, None, at + 1, later_at + 1)

@@ -2,7 +2,7 @@
 
 from math import gcd
 
-from wrongclock.checks import MOST_WAKINGS, check_almanac, check_readings, is_tuple_of, is_within
+from wrongclock.checks import MOST_WAKINGS, check_almanac, check_number, check_readings, is_tuple_of, is_within
 from wrongclock.errors import BadNumber, TooMany
 from wrongclock.gaps import bits, gap_table
 from wrongclock.tables import check_table, is_wrong
@@ -83,12 +83,6 @@ def fail_chance(almanac, chance, table, wakings):
         failed = failed * factor + failed_now
         whole = whole * factor
     return in_lowest_terms(failed, whole)
-
-
-def check_number(value, most):
-    """Raise BadNumber for what is no integer from 1 to most."""
-    if not is_within(value, 1, most):
-        raise BadNumber()
 
 
 def check_chance(value):

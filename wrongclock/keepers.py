@@ -4,11 +4,12 @@ from wrongclock.checks import MOST_LATE, MOST_REST, check_almanac, is_story
 from wrongclock.clocks import Clocks
 from wrongclock.errors import NoKeeper, TooMany
 from wrongclock.gaps import bits
-from wrongclock.pairs import Walk
 from wrongclock.ruled import rule_table
 from wrongclock.runs import Run, failing_ground, levels_within_limits
+from wrongclock.scenes import plain_scene
+from wrongclock.searches import Search
 from wrongclock.tables import check_table, check_thumb, goes_wrong, thumb_table
-from wrongclock.twins import check_places_come, has_keeper
+from wrongclock.twins import has_keeper
 
 MOST_THUMBS = 255
 
@@ -45,11 +46,10 @@ def shortest_bad_story(almanac, table):
 def keeper(almanac):
     """Return the table that does what the rule does."""
     check_almanac(almanac)
-    walk = Walk(almanac, 1)
-    levels = walk.levels(None)
-    if walk.clash_in(levels[-1]) is not None:
+    search = Search(plain_scene(almanac), None)
+    if search.found():
         raise NoKeeper()
-    check_places_come(almanac, levels)
+    search.check_places()
     return rule_table(almanac)
 
 

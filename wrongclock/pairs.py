@@ -1,26 +1,30 @@
-"""The pairs of stories with the same readings, gone through waking by waking.
+"""The pairs of stories that the keeper sees alike, gone through waking by waking.
 
-A place of two stories (point 5) is kept in two parts. Its ground is (hour, ahead, error modulo turns);
-the other error follows from the equal readings. Its two waits are one bit of the ground's mask:
+A place of two stories (point 5) is kept in two parts. Its ground is (hour modulo period, ahead, error modulo
+turns); the other error follows from the equal readings. Its two waits are one bit of the ground's mask:
 bit (wait - 1) * rest + other wait - 1.
 
-With turns = hours these are the places of the document. What may come behind a place does not depend
-on its error, so turns = 1 is enough, and much faster, to find the shortest conflict.
+In a whole walk these are the places of the document. What may come behind a place does not depend on its error,
+nor on what the second clocks show, if it is the same for both. So a short walk, with turns = 1 and the hours of
+the deeds as its period, is enough, and much faster, to find the shortest conflict.
 """
+
+from math import lcm
 
 from wrongclock.days import opened_by, urgent_at
 from wrongclock.errors import TooMany
-from wrongclock.gaps import bits, gap_table
+from wrongclock.gaps import bits, step_table
+from wrongclock.sights import Sights, beat_of
 
 START = (0, 0, 0)
 MOST_PLACES = 40000
 
 
-def clashes(almanac, hour, ahead):
+def clashes(deeds, hour, ahead):
     """Tell whether more deeds are urgent at the first one's last waking than opened at the second one's."""
-    # A day later for both changes nothing, so any hour will do at which neither of them is below 0.
-    true_hour = hour + almanac[0] * (abs(ahead) + 1)
-    return urgent_at(almanac, true_hour) > opened_by(almanac, true_hour - ahead)
+    # A deed later for both changes nothing, so any hour will do at which neither of them is below 0.
+    true_hour = hour + deeds[0] * (abs(ahead) + 1)
+    return urgent_at(deeds, true_hour) > opened_by(deeds, true_hour - ahead)
 
 
 def spread_waits(waits, rest):
@@ -29,16 +33,21 @@ def spread_waits(waits, rest):
 
 
 class Walk:
-    """The places to which pairs of stories lead."""
+    """The places to which pairs of stories lead in a scene."""
 
-    def __init__(self, almanac, turns):
+    def __init__(self, scene, is_whole):
+        almanac, deeds, signs = scene
         self.almanac = almanac
-        self.turns = turns
-        self.table = gap_table(almanac)
+        self.deeds = deeds
+        self.signs = signs
+        self.turns = almanac[0] if is_whole else 1
+        self.period = lcm(deeds[0], beat_of(signs)) if is_whole else deeds[0]
+        self.table = step_table(almanac, 0 if ("told",) in signs else None)
+        self.sights = Sights(almanac, signs)
         self.moves_known = {}
 
     def moves(self, pair):
-        """Return where a waking more leads from a pair of waits: tuples (hours on, further ahead, change, mask)."""
+        """Return where a waking more leads from a pair of waits: tuples (gap, other gap, change, mask)."""
         if pair not in self.moves_known:
             self.moves_known[pair] = self.worked_out_moves(pair)
         return self.moves_known[pair]
@@ -47,26 +56,33 @@ class Walk:
         """Work out what moves(pair) returns."""
         hours, soon, late, rest = self.almanac[0], self.almanac[3], self.almanac[4], self.almanac[6]
         at, other_at = divmod(pair, rest)
+        gaps_met = {}
         met = {}
-        for (gap, change), waits in self.table.items():
+        for (gap, change, times), waits in self.table.items():
             if waits[at] == 0:
                 continue
             wide = spread_waits(waits[at], rest)
             for other_gap in range(soon, late + 1):
-                other_waits = self.table.get((other_gap, (gap + change - other_gap) % hours))
+                other_waits = self.table.get((other_gap, (gap + change - other_gap) % hours, times))
                 if other_waits is None or other_waits[other_at] == 0:
                     continue
-                key = (gap % hours, gap - other_gap, change % self.turns)
+                key = (self.gap_kind(gap), gap - other_gap, change % self.turns)
+                gaps_met.setdefault(key, (gap, other_gap))
                 met[key] = met.get(key, 0) | (wide * other_waits[other_at])
-        return [(on, further, change, mask) for (on, further, change), mask in met.items()]
+        return [gaps_met[key] + (key[2], mask) for key, mask in met.items()]
+
+    def gap_kind(self, gap):
+        """Return what is the same for gaps that come to the same if the other ones are so much longer or shorter."""
+        # A bell tells a longer gap from one that is shorter by whole days.
+        return gap if self.sights.bells else gap % self.period
 
     def reached_from(self, ground, pair):
         """Return the places to which a waking more leads from a place: pairs of ground and mask."""
-        hours = self.almanac[0]
         hour, ahead, error = ground
         return [
-            (((hour + on) % hours, ahead + further, (error + change) % self.turns), mask)
-            for on, further, change, mask in self.moves(pair)
+            (((hour + gap) % self.period, ahead + gap - other_gap, (error + change) % self.turns), mask)
+            for gap, other_gap, change, mask in self.moves(pair)
+            if not self.signs or self.sights.are_alike(hour, ahead, gap, other_gap)
         ]
 
     def onward(self, level):
@@ -81,7 +97,7 @@ class Walk:
     def clash_in(self, level):
         """Return a ground of a level with a conflict, None if there is none."""
         for ground in level:
-            if clashes(self.almanac, ground[0], ground[1]):
+            if clashes(self.deeds, ground[0], ground[1]):
                 return ground
         return None
 

@@ -9,13 +9,18 @@ from wrongclock.gaps import bits, gap_table
 def rule(almanac, readings):
     """Return how many deeds the rule has done in all by the last of these readings."""
     check_almanac(almanac)
-    return max([urgent_at(almanac, max(waits)) for waits in waits_at_wakings(almanac, readings)])
+    return greatest_urgent(almanac, waits_at_wakings(almanac, readings))
 
 
 def may_be(almanac, readings):
     """Return the ascending tuple of the hours at which the last waking can be."""
     check_almanac(almanac)
     return tuple(sorted(waits_at_wakings(almanac, readings)[-1]))
+
+
+def greatest_urgent(almanac, wakings):
+    """Return the greatest number of deeds urgent at the hours at which each of the wakings can be."""
+    return max([urgent_at(almanac, max(waits)) for waits in wakings])
 
 
 def waits_at_wakings(almanac, readings):

@@ -4,14 +4,14 @@ from wrongclock.gaps import bits, story_of
 
 
 class Trace:
-    """The way back of a walk without errors from its last level, with the steps of both stories.
+    """The way back of a short walk from its last level, with the steps of both stories.
 
     A place is here (hour, ahead, wait, other wait).
     """
 
     def __init__(self, walk):
+        self.walk = walk
         self.almanac = walk.almanac
-        self.table = walk.table
 
     def stories(self, levels, ground):
         """Return two stories that lead to a ground of the last level."""
@@ -24,23 +24,24 @@ class Trace:
             step, other_step = self.step_to(level, place)
             steps.append(step)
             other_steps.append(other_step)
-            place = self.place_before(place, step, other_step)
+            hour, ahead = self.before(place, step[0], other_step[0])
+            place = (hour, ahead, step[3], other_step[3])
         return (story_of(self.almanac, steps[::-1]), story_of(self.almanac, other_steps[::-1]))
 
-    def place_before(self, place, step, other_step):
-        """Return the place from which a step of each story leads to a place."""
-        gap, other_gap = step[0], other_step[0]
-        return ((place[0] - gap) % self.almanac[0], place[1] - gap + other_gap, step[2], other_step[2])
+    def before(self, place, gap, other_gap):
+        """Return the hour and how far ahead it is from which these gaps lead to a place."""
+        return ((place[0] - gap) % self.walk.period, place[1] - gap + other_gap)
 
     def step_to(self, level, place):
         """Return a step of each story that leads from a place of the level to a place."""
-        hours, soon, late = self.almanac[0], self.almanac[3], self.almanac[4]
-        hour, ahead, wait, other_wait = place
+        soon, late = self.almanac[3], self.almanac[4]
         for gap in range(soon, late + 1):
             for other_gap in range(soon, late + 1):
-                ground = ((hour - gap) % hours, ahead - gap + other_gap, 0)
-                for pair in bits(level.get(ground, 0)):
-                    found = self.step_between(gap, other_gap, pair, (wait, other_wait))
+                hour, ahead = self.before(place, gap, other_gap)
+                if not self.walk.sights.are_alike(hour, ahead, gap, other_gap):
+                    continue
+                for pair in bits(level.get((hour, ahead, 0), 0)):
+                    found = self.step_between(gap, other_gap, pair, place[2:])
                     if found is not None:
                         return found
         return None
@@ -50,13 +51,15 @@ class Trace:
         hours, rest = self.almanac[0], self.almanac[6]
         at, other_at = divmod(pair, rest)
         after, other_after = waits_after
-        for change in range(hours):
-            other_change = (gap + change - other_gap) % hours
-            if self.leads(gap, change, at, after) and self.leads(other_gap, other_change, other_at, other_after):
-                return (gap, change, at + 1, after), (other_gap, other_change, other_at + 1, other_after)
+        for met_gap, change, times in self.walk.table:
+            step = (gap, change, times, at + 1, after)
+            other_step = (other_gap, (gap + change - other_gap) % hours, times, other_at + 1, other_after)
+            if met_gap == gap and self.leads(step) and self.leads(other_step):
+                return step, other_step
         return None
 
-    def leads(self, gap, change, at, after):
-        """Tell whether a gap with a change can lead from a wait, told from 0, to a wait."""
-        waits = self.table.get((gap, change))
-        return waits is not None and (waits[at] >> (after - 1)) & 1 == 1
+    def leads(self, step):
+        """Tell whether there is such a step."""
+        gap, change, times, wait, wait_after = step
+        waits = self.walk.table.get((gap, change, times))
+        return waits is not None and (waits[wait - 1] >> (wait_after - 1)) & 1 == 1

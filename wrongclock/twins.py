@@ -1,48 +1,37 @@
 """Twin stories: whether two histories with the same readings need unlike deeds."""
 
-from wrongclock.checks import MOST_WAKINGS, ascends, check_almanac, is_integer, is_story, is_tuple_of, is_within
-from wrongclock.days import opened_by, shown_in, urgent_at
-from wrongclock.errors import TooMany
+from wrongclock.checks import ascends, check_almanac, is_integer, is_tuple_of, is_within
 from wrongclock.gaps import bits
-from wrongclock.pairs import MOST_PLACES, Walk, clashes, count_places
-from wrongclock.traces import Trace
+from wrongclock.pairs import MOST_PLACES, Walk, clashes
+from wrongclock.scenes import plain_scene
+from wrongclock.searches import Search, search_within_limits
 
 
 def conflict(almanac):
     """Return a conflict with as few wakings as can be, None if there is none."""
     check_almanac(almanac)
-    walk = Walk(almanac, 1)
-    levels = walk.levels(None)
-    ground = clash_within_limits(walk, levels)
-    if ground is None:
-        return None
-    return Trace(walk).stories(levels, ground)
+    return search_within_limits(plain_scene(almanac)).stories()
 
 
 def shows_conflict(almanac, value):
     """Tell whether a value is what conflict(almanac) may return."""
     check_almanac(almanac)
-    walk = Walk(almanac, 1)
-    levels = walk.levels(None)
-    if clash_within_limits(walk, levels) is None:
-        return value is None
-    return is_conflict(almanac, value) and len(value[0][0]) == len(levels)
+    return search_within_limits(plain_scene(almanac)).shows(value)
 
 
 def has_keeper(almanac):
     """Return whether there is no conflict."""
     check_almanac(almanac)
-    walk = Walk(almanac, 1)
-    levels = walk.levels(None)
-    check_places_come(almanac, levels)
-    return walk.clash_in(levels[-1]) is None
+    search = Search(plain_scene(almanac), None)
+    search.check_places()
+    return not search.found()
 
 
 def places(almanac):
     """Return the ascending tuple of the places of all pairs of stories, None if there is a conflict."""
     check_almanac(almanac)
     hours, rest = almanac[0], almanac[6]
-    walk = Walk(almanac, hours)
+    walk = Walk(plain_scene(almanac), True)
     levels = walk.levels(MOST_PLACES)
     if walk.clash_in(levels[-1]) is not None:
         return None
@@ -64,32 +53,6 @@ def shows_places(almanac, value):
     if any(clashes(almanac, place[0], place[1]) for place in value):
         return False
     return is_closed(almanac, value)
-
-
-def clash_within_limits(walk, levels):
-    """Return the ground of the shortest conflict, None if there is none; raise TooMany as conflict does."""
-    ground = walk.clash_in(levels[-1])
-    if ground is not None and len(levels) > MOST_WAKINGS:
-        raise TooMany(MOST_WAKINGS)
-    check_places_come(walk.almanac, levels)
-    return ground
-
-
-def check_places_come(almanac, levels):
-    """Raise TooMany if too many places come, told from the levels without errors."""
-    hours = almanac[0]
-    if hours * sum([count_places(level) for level in levels]) > MOST_PLACES:
-        Walk(almanac, hours).levels(MOST_PLACES)
-
-
-def is_conflict(almanac, value):
-    """Tell whether a value is a conflict, of as many wakings as may be passed."""
-    if not is_tuple_of(value, 2) or not all(is_story(almanac, story) for story in value):
-        return False
-    one, other = value
-    if shown_in(almanac, one) != shown_in(almanac, other):
-        return False
-    return urgent_at(almanac, one[0][-1]) > opened_by(almanac, other[0][-1])
 
 
 def written_place(ground, pair, hours, rest):
@@ -115,7 +78,7 @@ def is_like_place(almanac, value):
 def is_closed(almanac, value):
     """Tell whether a tuple of places has with each place all those to which a waking more leads."""
     rest = almanac[6]
-    walk = Walk(almanac, almanac[0])
+    walk = Walk(plain_scene(almanac), True)
     masks = {}
     for hour, ahead, error, _, wait, other_wait in value:
         ground = (hour, ahead, error)

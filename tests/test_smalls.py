@@ -14,6 +14,8 @@ IDLE = (((0, 0),) * 3,)
 # One deed a day, at any hour; the clock can only be set on by half a day.
 HALVES = (2, 0, 1, 1, 1, (1,), 6)
 
+# Keepers that are right if the clock is set more rarely, with rest 12, fail here only with several settings.
+LATE = ((4, 0, 2, 1, 2, (-2, 2), 4), (4, 0, 2, 1, 2, (-2,), 1), (2, 1, 1, 1, 1, (-1, 1), 4), (2, 0, 1, 1, 1, (-1, 1), 5))
 # One setting makes the keeper fail at the second waking, but he fails at the third one without any.
 DEAR = ((3, 0, 2, 1, 2, (1,), 1), (((0, 1), (0, 0), (0, 0)),))
 # One setting, of two kinds and at two hours, makes the keeper fail at the third waking.
@@ -28,6 +30,19 @@ def alternating(many, hours=2):
 def ending(many):
     """A table that fails at the waking with this number, for it expects no reading then."""
     return alternating(many + 1)[:many - 1] + ((None, None),)
+
+
+def mingling(many):
+    """A table whose state tells the hour and mingles the readings; it fails if it is not set until this waking."""
+    rows = [
+        [((hour + 1) % 12 * 331 + (3 * mixed + reading + 1) % 331, 1 if hour == 0 else 0) for reading in range(12)]
+        for hour in range(12) for mixed in range(331)
+    ]
+    state = 0
+    for hour in range(many - 1):
+        state = rows[state][hour % 12][0]
+    rows[state][(many - 1) % 12] = None
+    return tuple(tuple(row) for row in rows)
 
 
 def woken(almanac, table, hour, error, state):
@@ -111,6 +126,33 @@ class Cheapest(Case):
                 costs[cost] = True
         self.assertTrue({None, (0, 1), (0, 2), (0, 3), (1, 2), (1, 3), (2, 3)} <= set(costs), costs)
 
+    def test_tables_that_fail_late(self):
+        costs = []
+        for almanac in LATE:
+            table = keeper(almanac[:6] + (12,))
+            value = cheapest_bad(almanac, table)
+            costs.append((len(value[1]), len(value[0])))
+            self.assertEqual(costs[-1], least_cost(almanac, table))
+            self.assert_is_cheapest(almanac, table, value, costs[-1])
+            self.assertTrue(shows_cheapest_bad(almanac, table, value))
+        self.assertEqual(costs, [(2, 4), (2, 3), (2, 6), (2, 7)])
+
+    def test_several_settings(self):
+        # Right while the clock is at most two hours fast.
+        table = tuple(
+            tuple(((at + 1) % 5, 1 if at % 2 == 0 else 0) if (reading - 3 * at) % 5 <= 2 else None for reading in range(5))
+            for at in range(5)
+        )
+        for rest, settings, cost in (
+            (1, (1,), (3, 2)), (2, (1,), (3, 3)), (3, (1,), (3, 4)), (5, (1,), (3, 5)), (1, (1, 2), (2, 2)),
+            (2, (1, 2), (2, 2)), (3, (1, 2), (2, 3)), (12, (1, 2), (2, 6)), (1, (3,), (1, 2)), (1, (-1, 2), (1, 2)),
+        ):
+            almanac = (5, 0, 4, 3, 3, settings, rest)
+            self.assertEqual(least_cost(almanac, table), cost)
+            value = cheapest_bad(almanac, table)
+            self.assert_is_cheapest(almanac, table, value, cost)
+            self.assertTrue(shows_cheapest_bad(almanac, table, value))
+
     def test_few_settings_count_ahead_of_few_wakings(self):
         almanac, table = DEAR
         short = bad_story(almanac, table)
@@ -179,6 +221,20 @@ class Cheapest(Case):
         self.assertIs(shows_cheapest_bad(HALVES, alternating(3332), None), True)
         self.assertEqual(self.too_many(cheapest_bad, HALVES, alternating(3334)), 40000)
         self.assertEqual(self.too_many(shows_cheapest_bad, HALVES, alternating(3334), None), 40000)
+
+    def test_what_comes_by_as_many_wakings(self):
+        # Without a setting he never fails; with one he does at the third waking, while much comes behind it.
+        table = alternating(3400)
+        table = table[:2] + ((table[2][0], None),) + table[3:]
+        value = cheapest_bad(HALVES, table)
+        self.assertEqual((len(value[1]), len(value[0])), (1, 3))
+        # He fails at this waking without any setting; more than 40000 come by the later one.
+        for many in (15, 50):
+            almanac, table = (12, 0, 11, 1, 1, (1,), 1), mingling(many)
+            if many == 15:
+                self.assertEqual(cheapest_bad(almanac, table), (tuple(range(15)), ()))
+            else:
+                self.assertEqual(self.too_many(cheapest_bad, almanac, table), 40000)
 
     def test_too_many_wakings_come_ahead(self):
         self.assertEqual(self.too_many(cheapest_bad, HALVES, ending(3900)), 60)
